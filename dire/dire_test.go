@@ -180,10 +180,50 @@ func TestTwice(t *testing.T) {
 	}
 }
 
+// 10.2, 10.1: what White separates are words, whatever they begin with: a word that begins with # begins a comment, and is one.
+func TestTwiceCommentWords(t *testing.T) {
+	for _, c := range []struct {
+		dirs []string
+		d    string
+		want bool
+	}{
+		{[]string{"%TAG #a"}, "%TAG #a", true}, {[]string{"%TAG #! x"}, "%TAG\t#! y", true}, {[]string{"%X", "%TAG # b"}, "%TAG #", true}, {[]string{"%TAG #"}, "%TAG # ", true}, {[]string{"%TAG  ## #"}, "%TAG\t \t##\t", true}, {[]string{"%TAG #é x"}, "%TAG #é y", true}, {[]string{"%TAG #\xff"}, "%TAG #\xff", true}, // the second word
+		{[]string{"%TAG #a"}, "%TAG #b", false}, {[]string{"%TAG a"}, "%TAG #a", false}, {[]string{"%TAG #a"}, "%TAG a", false}, {[]string{"%TAG # a"}, "%TAG #a", false}, {[]string{"%TAG ## a"}, "%TAG # a", false}, {[]string{"%TAG #a"}, "%TAG #", false}, {[]string{"%TAG #"}, "%TAG", false}, {[]string{"%TAG"}, "%TAG #", false}, {[]string{"%TAG #a"}, "%TAG", false}, {[]string{"%TAG #\xff"}, "%TAG #\xfe", false}, {[]string{"%TAG#a"}, "%TAG #a", false}, {[]string{"%TAG# !"}, "%TAG# !", false}, // another one, or none
+		{[]string{"%TAG ! #a"}, "%TAG ! #b", true}, {[]string{"%TAG ! x #a"}, "%TAG !", true}, {[]string{"%TAG ! # #"}, "%TAG !! # #", false}, // further behind
+		{[]string{"#a %TAG"}, "#a %TAG", false}, {[]string{"# %TAG !"}, "# %TAG !", false}, {[]string{"# %YAML"}, "# %YAML", false}, {[]string{"# %YAML 1.2"}, "%YAML 1.2", false}, {[]string{"%YAML 1.2"}, "# %YAML 1.2", false}, {[]string{"#%TAG !"}, "%TAG !", false}, {[]string{"#"}, "#", false}, {[]string{"%X #a"}, "%X #a", false}, // the first word
+		{[]string{"%YAML #a"}, "%YAML #b", true}, {[]string{"%YAML #"}, "%YAML", true}, {[]string{"%YAML# 1"}, "%YAML# 1", false}, {[]string{"%YAML#"}, "%YAML #", false}, // of %YAML no second word is asked
+	} {
+		if got := dire.Twice(c.dirs, c.d); got != c.want {
+			t.Errorf("Twice(%q, %q) = %v, want %v", c.dirs, c.d, got, c.want)
+		}
+		checkTwice(t, c.dirs, c.d)
+	}
+}
+
+// 10.2, 10.4: every byte, and runes whose last byte could be one of White, within the words of both texts.
+func TestTwiceEveryByte(t *testing.T) {
+	for i := range 0x100 {
+		for _, b := range []string{string([]byte{byte(i)}), string(rune(0x100 + i))} {
+			for _, before := range []string{"", "%", "%TAG", "%TAG ", "%TAG\t", "%TAG a", "%TAG #", "%TAG ! ", "%YAML", "%YAML ", "%X "} {
+				for _, after := range []string{"", "a", " a", "#", " #", "%TAG !", "TAG #"} {
+					one := before + b + after
+					for _, other := range []string{one, one + " x", "%TAG", "%TAG ! x", "%TAG #", "%TAG a", "%TAG #a", before + after, before + " " + b} {
+						checkTwice(t, []string{one}, other)
+						checkTwice(t, []string{"%X", other, ""}, one)
+					}
+				}
+			}
+		}
+	}
+}
+
 // 10.2, 10.4: every text of up to three words and gaps against each other, and with others ahead and behind.
 func TestTwiceEveryPair(t *testing.T) {
 	var texts []string
-	every([]string{"%YAML", "%TAG", "%X", "!", "!e!", " ", "\t", "\xff"}, 3, func(s string) { texts = append(texts, s) })
+	every([]string{"%YAML", "%TAG", "%X", "!", "!e!", " ", "\t", "#", "\xff"}, 3, func(s string) { texts = append(texts, s) })
+	for _, name := range []string{"%TAG ", "%TAG\t ", "%YAML "} {
+		every([]string{"#", "!", "a", " "}, 3, func(s string) { texts = append(texts, name+s) })
+	}
 	for _, c := range read {
 		texts = append(texts, c.want)
 	}
